@@ -1,0 +1,1 @@
+"""Laidfields: fields laid at their multiples, and kept from make to make."""
