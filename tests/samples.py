@@ -1,8 +1,9 @@
-"""Kinds to test with, and a second reckoning of what the document says of them.
+"""Things to test with, and a second reckoning of what the document says of them.
 
-Nothing here draws from the program: the reckoning goes byte by byte, so that a fault of the
-program is not a fault of its tests as well.
+Nothing here draws from the program: the reckoning goes byte by byte, or through all that there is,
+so that a fault of the program is not a fault of its tests as well.
 """
+import itertools
 import random
 
 LETTERS = "abcdefghijklmnopqrstuvwxyz"
@@ -130,3 +131,185 @@ def drawn_kinds(how_many):
         if reckoned(kind)[0] <= 2000:
             kinds.append(kind)
     return kinds
+
+
+class Sullen:
+    """It answers whatever it is asked with an error."""
+
+    def refuse(self, *things):
+        raise RuntimeError("sullen")
+
+    __eq__ = __ne__ = __lt__ = __le__ = __gt__ = __ge__ = __hash__ = refuse
+    __len__ = __bool__ = __iter__ = __getitem__ = __contains__ = __int__ = __index__ = refuse
+    __str__ = __add__ = __sub__ = __mod__ = refuse
+
+    def __repr__(self):
+        return "Sullen()"
+
+
+STRANGE = [
+    None, True, False, 0, 1, -1, 8, 10 ** 40, "", "a", "number", "n1/1", b"", b"number", bytearray(b"row"),
+    [], (), {}, set(), frozenset(), [1], (1,), {"a": 1}, {1}, range(3), object(), object, len, int,
+    ValueError("a"), slice(1), Ellipsis, iter([1]), (k for k in [1]), lambda: None, Sullen(), [Sullen()], (Sullen(),),
+]
+
+N1 = number(1, 1)
+
+# Things that are no kinds for their form.
+WRONG_FORMS = [
+    ("number",), ("number", 1), ("number", 1, 1, 1), ("number", 1, 1, None), ["number", 1, 1],
+    ("row",), ("row", N1), ("row", N1, 1, 1), ("row", 1, N1), ["row", N1, 1],
+    ("record",), ("record", [("a", N1)], 1), ["record", [("a", N1)]], ("record", ("a", N1)), ("record", (("a", N1),)),
+    ("record", ["a", N1]), ("record", [["a", N1]]), ("record", [("a",)]), ("record", [()]), ("record", ["ab"]),
+    ("record", [("a", N1, N1)]), ("record", [("a", N1), None]), ("record", [None]), ("record", [N1]),
+    ("record", [(N1, "a")]), ("record", {"a": N1}), ("record", [{"a": N1}]), ("record", {("a", N1): 1}),
+    ("record", {("a", N1)}), ("record", "a"), ("record", N1),
+    ("choice",), ("choice", [N1], 1), ["choice", [N1]], ("choice", (N1,)), ("choice", N1), ("choice", [[N1]]),
+    ("choice", {0: N1}), ("choice", {N1: 1}), ("choice", {N1}), ("choice", "number"), ("choice", [("a", N1)]),
+    ("choice", N1, N1), ("choice", [list(N1)]), ("choice", [N1, list(N1)]), ("choice", [None]),
+    ("Number", 1, 1), ("numbers", 1, 1), ("numbe", 1, 1), (" number", 1, 1), ("", 1, 1), (b"number", 1, 1),
+    (None, 1, 1), (1, 1, 1), (["number"], 1, 1), (("number",), 1, 1), (Sullen(), 1, 1), (True, 1, 1),
+    ("rows", N1, 1), ("Row", N1, 1), ("ROW", N1, 1), ("pair", [N1]), ("Record", [("a", N1)]), ("records", [("a", N1)]),
+    ("choices", [N1]), ("Choice", [N1]), ("list", N1, 1), (Sullen(), [N1]), ([], [N1]), ({}, [N1]),
+    ("number", N1, 1), ("number", 1, N1), ("row", N1, N1), ("record", [N1]), ("choice", 1), ("record", 1),
+    ("row", [N1], 1), ("row", [("a", N1)], 1), ("number", [1], 1), ("number", 1, [1]), ("number", (1,), (1,)),
+    ("number", [("a", N1)]), ("row", [N1]), ("record", N1, 1), ("choice", N1, 1), ("number", "1", "1"),
+]
+
+
+def lists_within(thing):
+    """Each list and dict of a thing, at any depth, as often as it stands there."""
+    if isinstance(thing, dict):
+        return [thing] + [inner for each in thing.values() for inner in lists_within(each)]
+    if isinstance(thing, (list, tuple)):
+        within = [inner for each in thing for inner in lists_within(each)]
+        return [thing] + within if isinstance(thing, list) else within
+    return []
+
+
+def are_apart(*things):
+    """Whether no list or dict stands twice, in one of the things or in two of them."""
+    within = [id(inner) for thing in things for inner in lists_within(thing)]
+    return len(within) == len(set(within))
+
+
+def spoil(thing):
+    """Changes each list and dict of a thing, at any depth."""
+    for inner in lists_within(thing):
+        if isinstance(inner, dict):
+            inner.clear()
+            inner["spoilt"] = 1
+        else:
+            inner.reverse()
+            inner.append("spoilt")
+            inner[0] = None
+
+
+def reckoned_spots(kind, value, begin=0):
+    """Of each byte that the value fills a tuple: where it lies, the byte, and how many kinds its
+    mark can choose (0 for a number's byte)."""
+    if kind[0] == "number":
+        return [(begin + k, byte, 0) for k, byte in enumerate(value.to_bytes(kind[1], "little"))]
+    if kind[0] == "row":
+        room, multiple = reckoned(kind[1])[:2]
+        begins = [begin + k * next_multiple(room, multiple) for k in range(kind[2])]
+        parts = [(kind[1], each, place) for each, place in zip(value, begins)]
+        marks = []
+    elif kind[0] == "record":
+        parts = [(inner, value[name], begin + place)
+                 for (name, inner), place in zip(kind[1], reckoned_fields(kind[1])[1])]
+        marks = []
+    else:
+        k, chosen = value
+        parts = [(kind[1][k], chosen, begin + next_multiple(1, reckoned(kind)[1]))]
+        marks = [(begin, k, len(kind[1]))]
+    return marks + [spot for part in parts for spot in reckoned_spots(*part)]
+
+
+def reckoned_bytes(kind, value):
+    filled = {place: byte for place, byte, count in reckoned_spots(kind, value)}
+    return [filled.get(place, 0) for place in range(reckoned(kind)[0])]
+
+
+def drawn_value(source, kind):
+    if kind[0] == "number":
+        greatest = 256 ** kind[1] - 1
+        return source.choice([0, 1, greatest, greatest - 1, source.randint(0, greatest), source.randint(0, greatest)])
+    if kind[0] == "row":
+        return [drawn_value(source, kind[1]) for k in range(kind[2])]
+    if kind[0] == "record":
+        shuffled = source.sample(kind[1], len(kind[1]))
+        return {name: drawn_value(source, inner) for name, inner in shuffled}
+    k = source.randrange(len(kind[1]))
+    return (k, drawn_value(source, kind[1][k]))
+
+
+def drawn_lying(source, how_many, widest_gap, longest):
+    """Rising stretches; one in three touches the one ahead of it."""
+    lying = []
+    end = 0
+    for k in range(how_many):
+        begin = end + source.choice([0, source.randint(0, widest_gap), source.randint(0, widest_gap)])
+        end = begin + source.randint(1, longest)
+        lying.append((begin, end))
+    return lying
+
+
+def is_reckoned_placing(kinds, lying, places):
+    """Byte by byte: each place a multiple from 0 on, and no byte taken twice."""
+    if len(places) != len(kinds):
+        return False
+    taken = [byte for begin, end in lying for byte in range(begin, end)]
+    for kind, place in zip(kinds, places):
+        room, multiple = reckoned(kind)[:2]
+        if place < 0 or place % multiple != 0:
+            return False
+        taken += range(place, place + room)
+    return len(taken) == len(set(taken))
+
+
+def reckoned_end(kinds, lying, places):
+    return max([end for begin, end in lying] + [place + reckoned(kind)[0] for kind, place in zip(kinds, places)] + [0])
+
+
+def has_placing_below(kinds, lying, end):
+    """Whether any placing ends below the end: each field is tried at all its multiples."""
+    if any(behind >= end for begin, behind in lying) or end == 0:
+        return False
+    taken = sum(1 << byte for begin, behind in lying for byte in range(begin, behind))
+    return fits([reckoned(kind)[:2] for kind in kinds], taken, end - 1)
+
+
+def fits(rooms, taken, end):
+    if not rooms:
+        return True
+    room, multiple = rooms[0]
+    for place in range(0, end - room + 1, multiple):
+        filled = ((1 << room) - 1) << place
+        if not taken & filled and fits(rooms[1:], taken | filled, end):
+            return True
+    return False
+
+
+def least_end_of_orders(kinds, lying):
+    """The least end of all placings in which the fields, in some order, each take the first place
+    that is free. (No placing has less: drawn to such places, in the order in which they lie, its
+    fields come to lie nowhere further behind.)"""
+    rooms = [reckoned(kind)[:2] for kind in kinds]
+    ends = []
+    for order in itertools.permutations(rooms):
+        taken = list(lying)
+        for room, multiple in order:
+            place = first_free(taken, room, multiple)
+            taken.append((place, place + room))
+        ends.append(max([end for begin, end in taken] + [0]))
+    return min(ends)
+
+
+def first_free(taken, room, multiple):
+    place = 0
+    while True:
+        hit = [end for begin, end in taken if begin < place + room and place < end]
+        if not hit:
+            return place
+        place = next_multiple(max(hit), multiple)

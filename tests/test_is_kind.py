@@ -3,51 +3,12 @@ import itertools
 import unittest
 
 from laidfields.kinds import is_kind
-from tests.samples import LETTERS, WRAPS, choice, drawn_kinds, number, record, row, wrapped
+from tests.samples import (
+    LETTERS, STRANGE, WRAPS, WRONG_FORMS, choice, drawn_kinds, number, record, row, wrapped,
+)
 
 N1 = number(1, 1)
 SORTS = [lambda kind: row(kind, 1), lambda kind: record(kind), lambda kind: choice(kind)]
-
-
-class Sullen:
-    """It answers whatever it is asked with an error."""
-
-    def refuse(self, *things):
-        raise RuntimeError("sullen")
-
-    __eq__ = __ne__ = __lt__ = __le__ = __gt__ = __ge__ = __hash__ = refuse
-    __len__ = __bool__ = __iter__ = __getitem__ = __contains__ = __int__ = __index__ = refuse
-    __str__ = __add__ = __sub__ = __mod__ = refuse
-
-    def __repr__(self):
-        return "Sullen()"
-
-
-STRANGE = [
-    None, True, False, 0, 1, -1, 8, 10 ** 40, "", "a", "number", "n1/1", b"", b"number", bytearray(b"row"),
-    [], (), {}, set(), frozenset(), [1], (1,), {"a": 1}, {1}, range(3), object(), object, len, int,
-    ValueError("a"), slice(1), Ellipsis, iter([1]), (k for k in [1]), lambda: None, Sullen(), [Sullen()], (Sullen(),),
-]
-
-WRONG_FORMS = [
-    ("number",), ("number", 1), ("number", 1, 1, 1), ("number", 1, 1, None), ["number", 1, 1],
-    ("row",), ("row", N1), ("row", N1, 1, 1), ("row", 1, N1), ["row", N1, 1],
-    ("record",), ("record", [("a", N1)], 1), ["record", [("a", N1)]], ("record", ("a", N1)), ("record", (("a", N1),)),
-    ("record", ["a", N1]), ("record", [["a", N1]]), ("record", [("a",)]), ("record", [()]), ("record", ["ab"]),
-    ("record", [("a", N1, N1)]), ("record", [("a", N1), None]), ("record", [None]), ("record", [N1]),
-    ("record", [(N1, "a")]), ("record", {"a": N1}), ("record", [{"a": N1}]), ("record", {("a", N1): 1}),
-    ("record", {("a", N1)}), ("record", "a"), ("record", N1),
-    ("choice",), ("choice", [N1], 1), ["choice", [N1]], ("choice", (N1,)), ("choice", N1), ("choice", [[N1]]),
-    ("choice", {0: N1}), ("choice", {N1: 1}), ("choice", {N1}), ("choice", "number"), ("choice", [("a", N1)]),
-    ("choice", N1, N1), ("choice", [list(N1)]), ("choice", [N1, list(N1)]), ("choice", [None]),
-    ("Number", 1, 1), ("numbers", 1, 1), ("numbe", 1, 1), (" number", 1, 1), ("", 1, 1), (b"number", 1, 1),
-    (None, 1, 1), (1, 1, 1), (["number"], 1, 1), (("number",), 1, 1), (Sullen(), 1, 1), (True, 1, 1),
-    ("rows", N1, 1), ("Row", N1, 1), ("ROW", N1, 1), ("pair", [N1]), ("Record", [("a", N1)]), ("records", [("a", N1)]),
-    ("choices", [N1]), ("Choice", [N1]), ("list", N1, 1), (Sullen(), [N1]), ([], [N1]), ({}, [N1]),
-    ("number", N1, 1), ("number", 1, N1), ("row", N1, N1), ("record", [N1]), ("choice", 1), ("record", 1),
-    ("row", [N1], 1), ("row", [("a", N1)], 1), ("number", [1], 1), ("number", 1, [1]), ("number", (1,), (1,)),
-    ("number", [("a", N1)]), ("row", [N1]), ("record", N1, 1), ("choice", N1, 1), ("number", "1", "1"),
-]
 
 
 class TestIsKind(unittest.TestCase):

@@ -160,11 +160,64 @@ class TestLanguage(unittest.TestCase):
         for name, node in nodes((ast.Name, ast.arg, ast.Attribute, ast.FunctionDef, ast.ClassDef)):
             word = [getattr(node, each) for each in ("id", "arg", "attr", "name") if hasattr(node, each)][0]
             self.assertNotIn(word, BARRED, where(name, node))
-            if word not in METHODS:
-                self.assertRegex(word, r"\A[A-Za-z][A-Za-z0-9_]*\Z", where(name, node))
+            if word in METHODS:
+                continue
+            self.assertRegex(word, r"\A[A-Za-z][A-Za-z0-9_]*\Z", where(name, node))
             is_read = isinstance(node, ast.Name) and isinstance(node.ctx, ast.Load)
             if hasattr(builtins, word) and not isinstance(node, ast.Attribute):
                 self.assertTrue(is_read and word in OWN_NAMES, where(name, node))
+
+    def test_no_parameter_and_no_local_hides_an_import_or_a_class(self):
+        """L15"""
+        for name, tree in trees():
+            hidden = [alias.name for node in tree.body if isinstance(node, ast.ImportFrom) for alias in node.names]
+            hidden += [node.name for node in tree.body if isinstance(node, ast.ClassDef)]
+            for node in ast.walk(tree):
+                if isinstance(node, ast.arg):
+                    self.assertNotIn(node.arg, hidden, where(name, node))
+                if isinstance(node, ast.Name) and isinstance(node.ctx, ast.Store):
+                    self.assertNotIn(node.id, hidden, where(name, node))
+
+    def test_no_name_is_a_method_and_a_value(self):
+        """L18, L26"""
+        methods = [inner.name for name, node in nodes(ast.ClassDef) for inner in node.body if hasattr(inner, "name")]
+        for name, node in nodes(ast.Attribute):
+            if isinstance(node.ctx, ast.Store):
+                self.assertNotIn(node.attr, methods, where(name, node))
+                for own in ["", 0, [], (), {}, set(), b""]:
+                    self.assertFalse(hasattr(own, node.attr), where(name, node))
+
+    def test_exponents_are_written(self):
+        """L27"""
+        for name, node in nodes((ast.BinOp, ast.AugAssign)):
+            if isinstance(node.op, ast.Pow):
+                self.assertIsInstance(getattr(node, "right", None), ast.Constant, where(name, node))
+                self.assertIn(node.right.value, range(65), where(name, node))
+
+    def test_errors_are_raised_and_taken_by_name(self):
+        """L19"""
+        for name, node in nodes(ast.Raise):
+            self.assertIsInstance(node.exc, ast.Call, where(name, node))
+        for name, node in nodes(ast.ExceptHandler):
+            self.assertIsInstance(node.type, (ast.Name, ast.Tuple), where(name, node))
+            taken = [each.id for each in ast.walk(node.type) if isinstance(each, ast.Name)]
+            self.assertEqual(set(taken) & {"Exception", "TypeError"}, set(), where(name, node))
+
+    def test_keywords(self):
+        """L22"""
+        due = {"sorted": ["key", "reverse"], "min": ["key", "default"], "max": ["key", "default"], "sum": ["start"],
+               "enumerate": ["start"], "zip": ["strict"]}
+        for name, node in nodes(ast.Call):
+            for keyword in node.keywords:
+                self.assertIn(keyword.arg, due.get(getattr(node.func, "id", ""), []), where(name, node))
+
+    def test_what_is_walked_at_once_is_not_kept(self):
+        """L23"""
+        passing = ["zip", "enumerate", "reversed", "range", "items", "keys", "values"]
+        for name, node in nodes((ast.Assign, ast.Return)):
+            if isinstance(node.value, ast.Call):
+                called = node.value.func
+                self.assertNotIn(getattr(called, "id", getattr(called, "attr", "")), passing, where(name, node))
 
     def test_methods_of_python_s_own_values(self):
         """L25"""
