@@ -1,6 +1,6 @@
 """Things to test with, and a second reckoning of what the document says of them.
 
-Nothing here draws from the program: the reckoning goes byte by byte, or through all that there is,
+Nothing here imports the program: the reckoning goes byte by byte, or through all that there is,
 so that a fault of the program is not a fault of its tests as well.
 """
 import itertools
@@ -147,6 +147,19 @@ class Sullen:
         return "Sullen()"
 
 
+class Alike:
+    """It has the hash of a name, and answers == with an error."""
+
+    def __init__(self, name):
+        self.name = name
+
+    def __hash__(self):
+        return hash(self.name)
+
+    def __eq__(self, other):
+        raise RuntimeError("sullen")
+
+
 STRANGE = [
     None, True, False, 0, 1, -1, 8, 10 ** 40, "", "a", "number", "n1/1", b"", b"number", bytearray(b"row"),
     [], (), {}, set(), frozenset(), [1], (1,), {"a": 1}, {1}, range(3), object(), object, len, int,
@@ -191,6 +204,17 @@ def are_apart(*things):
     """Whether no list or dict stands twice, in one of the things or in two of them."""
     within = [id(inner) for thing in things for inner in lists_within(thing)]
     return len(within) == len(set(within))
+
+
+def are_same(one, other):
+    """Alike, and each thing within of the same kind (1 is not True, a list no tuple)."""
+    if type(one) is not type(other) or one != other:
+        return False
+    if isinstance(one, dict):
+        return all(are_same(one[key], other[key]) for key in one)
+    if isinstance(one, (list, tuple)):
+        return all(are_same(inner, beside) for inner, beside in zip(one, other))
+    return True
 
 
 def spoil(thing):
@@ -313,3 +337,107 @@ def first_free(taken, room, multiple):
         if not hit:
             return place
         place = next_multiple(max(hit), multiple)
+
+
+def add(name, kind=N1, agreed=0):
+    return ("add", name, kind, agreed)
+
+
+def drop(name):
+    return ("drop", name)
+
+
+def told_of(house):
+    """All that a house tells."""
+    makes = range(house.how_many_makes())
+    return [(house.fields_of(make), house.places_of(make), house.room_at(make)) for make in makes]
+
+
+class Life:
+    """Which fields each make of a house has, told from the changes alone. A field is a tuple (serial,
+    name, kind, agreed): by its serial it is known again, whatever others bear its name."""
+
+    def __init__(self, changes):
+        self.lists = []
+        self.makes = []
+        self.serial = 0
+        self.go_on(changes)
+
+    def go_on(self, changes):
+        there = list(self.makes[-1]) if self.makes else []
+        for change in changes:
+            if change[0] == "drop":
+                there = [field for field in there if field[1] != change[1]]
+            else:
+                self.serial += 1
+                there.append((self.serial,) + change[1:])
+        self.makes.append(there)
+        self.lists.append(changes)
+
+    def lead(self, house_class):
+        """A house that goes through all these makes."""
+        house = house_class([change[1:] for change in self.lists[0]])
+        for changes in self.lists[1:]:
+            house.next_make(changes)
+        return house
+
+    def serials(self, make):
+        return [field[0] for field in self.makes[make]]
+
+    def drawn_value(self, source, make):
+        return {name: drawn_value(source, kind) for serial, name, kind, agreed in self.makes[make]}
+
+    def written(self, house, make, value):
+        """The bytes, field by field, where the house tells that they lie."""
+        return self.laid_over([0] * house.room_at(make), house, make, value)
+
+    def laid_over(self, some, house, make, value):
+        laid = list(some)
+        for serial, name, kind, agreed in self.makes[make]:
+            if name in value:
+                for k, byte in enumerate(reckoned_bytes(kind, value[name])):
+                    laid[house.places_of(make)[name] + k] = byte
+        return laid
+
+    def filled(self, house, make):
+        """All bytes where a field of the make lies, its idle ones too."""
+        return {house.places_of(make)[name] + k
+                for serial, name, kind, agreed in self.makes[make] for k in range(reckoned(kind)[0])}
+
+    def read(self, a, b, value):
+        """What a hand of make b tells of bytes of make a that were written from the value."""
+        known = self.serials(a)
+        return {name: value[name] if serial in known else agreed for serial, name, kind, agreed in self.makes[b]}
+
+    def handed(self, a, b, value, changes):
+        """The value of the later make, when a hand of make b has changed bytes of make a."""
+        later = max(a, b)
+        told = self.read(a, later, value)
+        changed = {serial: changes[name] for serial, name, kind, agreed in self.makes[b] if name in changes}
+        for serial, name, kind, agreed in self.makes[later]:
+            if serial in changed:
+                told[name] = changed[serial]
+        return told
+
+
+def drawn_life(source, kinds):
+    """At most eight makes with at most twenty fields in all; few names, so that some come again."""
+    left = 20
+    life = None
+    for make in range(source.randint(3, 8)):
+        there = [field[1] for field in life.makes[-1]] if life else []
+        changes = [drop(name) for name in there if source.random() < 0.3]
+        there = [name for name in there if drop(name) not in changes]
+        free = [name for name in ["a", "b", "longname", "d", "e", "none", "g", "h", "i"] if name not in there]
+        count = min(left, len(free), source.choice([0, 1, 2, 3, 5]))
+        left -= count
+        for name in source.sample(free, count):
+            kind = source.choice(kinds)
+            changes.append(add(name, kind, drawn_value(source, kind)))
+        if count and source.random() < 0.2:
+            changes.append(drop(changes[-1][1]))
+        if life:
+            life.go_on(changes)
+        else:
+            life = Life([change for change in changes if change[0] == "add"])
+    return life

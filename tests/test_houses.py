@@ -6,8 +6,9 @@ import unittest
 from laidfields.errors import FieldError, NoMake
 from laidfields.houses import House
 from tests.samples import (
-    STRANGE, WRONG_FORMS, Sullen, are_apart, choice, drawn_kinds, drawn_value, has_placing_below, is_reckoned_placing,
-    least_end_of_orders, next_multiple, number, reckoned, reckoned_end, record, row, spoil, wrapped,
+    STRANGE, WRONG_FORMS, Sullen, add, are_apart, choice, drawn_kinds, drawn_value, drop, has_placing_below,
+    is_reckoned_placing, least_end_of_orders, next_multiple, number, reckoned, reckoned_end, record, row, spoil,
+    told_of, wrapped,
 )
 
 N11, N18, N22, N31, N34, N44, N58, N88 = (
@@ -18,22 +19,8 @@ EITHER = choice(N11, N44)
 SMALL = [number(w, m) for w in range(1, 9) for m in (1, 2, 4, 8)] + [PAIR, EITHER, row(N34, 2), choice(N11)]
 
 
-def add(name, kind=N11, agreed=0):
-    return ("add", name, kind, agreed)
-
-
-def drop(name):
-    return ("drop", name)
-
-
 def plain(names, kind=N11, agreed=0):
     return [(name, kind, agreed) for name in names]
-
-
-def told_of(house):
-    """All that a house tells."""
-    makes = range(house.how_many_makes())
-    return [(house.fields_of(make), house.places_of(make), house.room_at(make)) for make in makes]
 
 
 def names_of(house, make):

@@ -54,6 +54,13 @@ def nodes(kinds):
     return [(name, node) for name, tree in trees() for node in ast.walk(tree) if isinstance(node, kinds)]
 
 
+def bound_by(node):
+    """The names that a def, a class or an assignment of a file's top gives."""
+    if isinstance(node, ast.Assign):
+        return [target.id for target in node.targets]
+    return [node.name] if isinstance(node, (ast.FunctionDef, ast.ClassDef)) else []
+
+
 def where(name, node):
     return f"{name}:{node.lineno}"
 
@@ -108,7 +115,7 @@ class TestLanguage(unittest.TestCase):
 
     def test_names_are_drawn_from_where_they_are_defined(self):
         """L16"""
-        defined = {name[:-3]: [getattr(node, "name", "") for node in tree.body] for name, tree in trees()}
+        defined = {name[:-3]: [bound for node in tree.body for bound in bound_by(node)] for name, tree in trees()}
         for name, node in nodes(ast.ImportFrom):
             for alias in node.names:
                 self.assertIn(alias.name, defined[node.module.split(".")[1]], where(name, node))
@@ -122,9 +129,25 @@ class TestLanguage(unittest.TestCase):
                 self.assertIsInstance(node, (ast.ImportFrom, ast.FunctionDef, ast.ClassDef, ast.Assign), where(name, node))
                 if isinstance(node, ast.ImportFrom):
                     bound += [alias.name for alias in node.names]
-                else:
-                    bound.append(node.targets[0].id if isinstance(node, ast.Assign) else node.name)
+                bound += bound_by(node)
             self.assertEqual(len(bound), len(set(bound)), name)
+
+    def test_what_the_top_of_a_module_holds(self):
+        """L3, L15"""
+        for name, tree in trees():
+            defined = []
+            for node in tree.body:
+                if isinstance(node, ast.FunctionDef):
+                    defined.append(node.name)
+                if isinstance(node, ast.Assign):
+                    within = list(ast.walk(node.value))
+                    for inner in within:
+                        self.assertIsInstance(
+                            inner, (ast.Constant, ast.Tuple, ast.List, ast.Dict, ast.Name, ast.Load), where(name, node))
+                        if isinstance(inner, ast.Name):
+                            self.assertIn(inner.id, defined, where(name, node))
+                    lists = [inner for inner in within if isinstance(inner, (ast.List, ast.Dict))]
+                    self.assertLessEqual(len(lists), 1, where(name, node))
 
     def test_statements_and_expressions(self):
         """L6, L7, L27"""

@@ -8,27 +8,14 @@ from laidfields.inorder import holes_of
 from laidfields.kinds import room_of
 from laidfields.values import bytes_of, is_value, value_of
 from tests.samples import (
-    STRANGE, WRAPS, Sullen, are_apart, choice, drawn_kinds, drawn_value, lists_within, number, reckoned,
-    reckoned_bytes, reckoned_spots, record, row, spoil, wrapped,
+    STRANGE, WRAPS, Alike, Sullen, are_apart, are_same, choice, drawn_kinds, drawn_value, lists_within, number,
+    reckoned, reckoned_bytes, reckoned_spots, record, row, spoil, wrapped,
 )
 
 N11, N12, N14, N18 = number(1, 1), number(1, 2), number(1, 4), number(1, 8)
 N22, N31, N32, N34, N44, N81, N88 = (number(*each) for each in [(2, 2), (3, 1), (3, 2), (3, 4), (4, 4), (8, 1), (8, 8)])
 PAIR = record(N11, N44)
 EITHER = choice(N11, N44)
-
-
-class Alike:
-    """It has the hash of a name, and answers == with an error."""
-
-    def __init__(self, name):
-        self.name = name
-
-    def __hash__(self):
-        return hash(self.name)
-
-    def __eq__(self, other):
-        raise RuntimeError("sullen")
 
 
 # Kind, value, bytes.
@@ -275,18 +262,7 @@ class TestBytes(unittest.TestCase):
         self.assertIs(type(told), list)
         self.assertEqual({type(byte) for byte in told}, {int})
         self.assertEqual(told, due, (kind, value))
-        self.is_same(value_of(kind, due), value)
-
-    def is_same(self, told, value):
-        """Alike, and each thing within of the same kind (1 is not True, a list no tuple)."""
-        self.assertEqual(told, value)
-        self.assertIs(type(told), type(value))
-        if isinstance(value, dict):
-            for name in value:
-                self.is_same(told[name], value[name])
-        if isinstance(value, (list, tuple)):
-            for one, other in zip(told, value):
-                self.is_same(one, other)
+        self.assertTrue(are_same(value_of(kind, due), value), (kind, value))
 
     def are_refused(self, kind, thing):
         with self.assertRaises(FieldError) as caught:
